@@ -1,0 +1,56 @@
+// Package warden: a small device that keeps keys and never tells them: see DOC.md.
+package warden
+
+// Errno is what a call answers: OK or the reason for a refusal.
+type Errno int
+
+const (
+	OK       Errno = 0
+	ErrPin   Errno = 1 // no PIN
+	ErrFlash Errno = 2 // no flash with a right half
+	ErrArg   Errno = 3 // a number or a key that may not be
+)
+
+// Device is one.
+type Device struct{}
+
+// New makes a device (P4).
+func New(pin string) (*Device, Errno) { return nil, OK }
+
+// Open makes a device with a flash (P4).
+func Open(flash string) (*Device, Errno) { return nil, OK }
+
+// Feed tells what the device answers to some bytes (P5).
+func (d *Device) Feed(bytes string) string { return "" }
+
+// Cut says when the power goes (P6).
+func (d *Device) Cut(n int) Errno { return OK }
+
+// Boot boots the device (P6).
+func (d *Device) Boot() Errno { return OK }
+
+// Flash tells the flash (P4).
+func (d *Device) Flash() string { return "" }
+
+// Sum tells the sum of some bytes (P3).
+func Sum(bytes string) [32]byte {
+	return sumBehind(startWords, 0, bytes)
+}
+
+// Seal tells the seal of a message by a key (P3).
+func Seal(key string, message string) ([32]byte, Errno) {
+	k, ok := keyOf(key)
+	if !ok {
+		return [32]byte{}, ErrArg
+	}
+	return sealBy(k, message), OK
+}
+
+// Code tells the code of a key and a number (P3).
+func Code(key string, number int) (string, Errno) {
+	k, ok := keyOf(key)
+	if !ok || number < 0 {
+		return "", ErrArg
+	}
+	return codeBy(k, uint64(number)), OK
+}
