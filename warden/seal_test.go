@@ -30,7 +30,8 @@ func wantedCode(key string, number int) string {
 	return fmt.Sprintf("%06d", binary.BigEndian.Uint32(seal[n:n+4])&math.MaxInt32%1000000)
 }
 
-func TestSealAsPublished(t *testing.T) {
+// The first three are test cases 1 to 3 of RFC 4231; the others were reckoned by another HMAC-SHA-256.
+func TestSealAsWritten(t *testing.T) {
 	for _, c := range []struct{ key, message, want string }{
 		{strings.Repeat("\x0b", 20), "Hi There", "b0344c61d8db38535ca8afceaf0bf12b881dc200c9833da726e9376c2e32cff7"},
 		{"Jefe", "what do ya want for nothing?", "5bdcc146bf60754e6a042426089575c75a003f089d2739839dec58b964ec3843"},
@@ -83,6 +84,7 @@ func TestSealRefusesWrongKeys(t *testing.T) {
 	}
 }
 
+// The first two are the document's; the others were reckoned by another HMAC-SHA-256.
 func TestCodeAsWritten(t *testing.T) {
 	for _, c := range []struct {
 		key    string
