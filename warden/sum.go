@@ -95,12 +95,14 @@ func word(b0, b1, b2, b3 byte) uint32 {
 func bytesOf(h [8]uint32) [32]byte {
 	var sum [32]byte
 	for i, x := range h {
-		sum[4*i] = byte(x >> 24)
-		sum[4*i+1] = byte(x >> 16)
-		sum[4*i+2] = byte(x >> 8)
-		sum[4*i+3] = byte(x)
+		four := fourBytes(x)
+		copy(sum[4*i:], four[:])
 	}
 	return sum
+}
+
+func fourBytes(x uint32) [4]byte {
+	return [4]byte{byte(x >> 24), byte(x >> 16), byte(x >> 8), byte(x)}
 }
 
 func eightBytes(number uint64) [8]byte {

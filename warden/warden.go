@@ -11,17 +11,39 @@ const (
 	ErrArg   Errno = 3 // a number or a key that may not be
 )
 
-// Device is one.
-type Device struct{}
+// Device is one: what is kept is in its flash alone, and read there anew for
+// each command.
+type Device struct {
+	flash    flash
+	unlocked bool
+	come     string // of a frame whose end has not come
+}
 
 // New makes a device (P4).
-func New(pin string) (*Device, Errno) { return nil, OK }
+func New(pin string) (*Device, Errno) {
+	p, fits := pinOf(pin)
+	if !fits {
+		return nil, ErrPin
+	}
+	return &Device{flash: flash{firstImage(p)}}, OK
+}
 
 // Open makes a device with a flash (P4).
-func Open(flash string) (*Device, Errno) { return nil, OK }
+func Open(flash string) (*Device, Errno) {
+	if len(flash) != flashSize {
+		return nil, ErrFlash
+	}
+	d := &Device{flash: flashOf(flash)}
+	if _, right := d.flash.kept(); !right {
+		return nil, ErrFlash
+	}
+	return d, OK
+}
 
 // Feed tells what the device answers to some bytes (P5).
-func (d *Device) Feed(bytes string) string { return "" }
+func (d *Device) Feed(bytes string) string {
+	return d.answersTo(d.come + bytes)
+}
 
 // Cut says when the power goes (P6).
 func (d *Device) Cut(n int) Errno { return OK }
@@ -29,8 +51,10 @@ func (d *Device) Cut(n int) Errno { return OK }
 // Boot boots the device (P6).
 func (d *Device) Boot() Errno { return OK }
 
-// Flash tells the flash (P4).
-func (d *Device) Flash() string { return "" }
+// Flash tells the flash, as it is now (P4).
+func (d *Device) Flash() string {
+	return d.flash.text()
+}
 
 // Sum tells the sum of some bytes (P3).
 func Sum(bytes string) [32]byte {
@@ -39,8 +63,8 @@ func Sum(bytes string) [32]byte {
 
 // Seal tells the seal of a message by a key (P3).
 func Seal(key string, message string) ([32]byte, Errno) {
-	k, ok := keyOf(key)
-	if !ok {
+	k, fits := keyOf(key)
+	if !fits || k.none() {
 		return [32]byte{}, ErrArg
 	}
 	return sealBy(k, message), OK
@@ -48,9 +72,10 @@ func Seal(key string, message string) ([32]byte, Errno) {
 
 // Code tells the code of a key and a number (P3).
 func Code(key string, number int) (string, Errno) {
-	k, ok := keyOf(key)
-	if !ok || number < 0 {
+	k, fits := keyOf(key)
+	if !fits || k.none() || number < 0 {
 		return "", ErrArg
 	}
-	return codeBy(k, uint64(number)), OK
+	eight := eightBytes(uint64(number))
+	return codeBy(k, string(eight[:])), OK
 }
