@@ -2,12 +2,27 @@ package warden
 
 const numberSize = 8
 
-// obey does one command on a copy of what is kept, and leaves nothing in it.
+// obey does one command on a copy of what is kept.
 func (d *Device) obey(command byte, payload string) string {
 	half, _ := d.flash.kept()
 	work := d.flash[half]
+	return d.obeyOn(&work, command, payload)
+}
+
+// obeyOn leaves nothing in the copy, and has no answer if the power goes.
+func (d *Device) obeyOn(work *image, command byte, payload string) (answer string) {
+	defer func() {
+		end := recover()
+		if end == nil {
+			return
+		}
+		if _, lost := end.(powerLoss); !lost {
+			panic(end) // a fault of the program is not to be hidden as a loss of power
+		}
+		d.restart(power{gone: true})
+	}()
 	defer work.wipe()
-	return answerOf(d.do(&work, command, payload))
+	return answerOf(d.do(work, command, payload))
 }
 
 func (d *Device) do(work *image, command byte, payload string) (status, string) {
@@ -42,7 +57,7 @@ func (d *Device) unlock(work *image, payload string) (status, string) {
 	}
 	d.unlocked = false
 	work[triesAt]--
-	d.flash.write(work) // ahead of the look at the PIN: who pulls the plug has the try behind him
+	d.write(work) // ahead of the look at the PIN: who pulls the plug has the try behind him
 	if *work.pin() != tried {
 		return d.refuse(work)
 	}
@@ -50,7 +65,7 @@ func (d *Device) unlock(work *image, payload string) (status, string) {
 		return isWorn, ""
 	}
 	work[triesAt] = maxTries
-	d.flash.write(work)
+	d.write(work)
 	d.unlocked = true
 	return done, ""
 }
@@ -59,7 +74,7 @@ func (d *Device) unlock(work *image, payload string) (status, string) {
 func (d *Device) refuse(work *image) (status, string) {
 	if work[triesAt] == 0 && !work.worn() {
 		work.dropKeys()
-		d.flash.write(work)
+		d.write(work)
 	}
 	return wrongPin, string([]byte{work[triesAt]})
 }
@@ -84,7 +99,7 @@ func (d *Device) set(work *image, payload string) status {
 		return isWorn
 	}
 	*work.key(slot) = key
-	d.flash.write(work)
+	d.write(work)
 	return done
 }
 
@@ -126,7 +141,7 @@ func (d *Device) setPin(work *image, payload string) status {
 		return isWorn
 	}
 	*work.pin() = pin
-	d.flash.write(work)
+	d.write(work)
 	return done
 }
 

@@ -27,17 +27,18 @@ func (f *flash) kept() (int, bool) {
 
 // write puts an image with the next number where what is kept now is not. The
 // mark comes last, so that a half that is not whole does not count.
-func (f *flash) write(work *image) {
-	half, _ := f.kept()
+func (d *Device) write(work *image) {
+	half, _ := d.flash.kept()
 	other := 1 - half
 	work.turnNumber()
-	f.put(other, markAt, 0)
+	d.put(other, markAt, 0)
 	for at := markAt + 1; at < imageSize; at++ {
-		f.put(other, at, work[at])
+		d.put(other, at, work[at])
 	}
-	f.put(other, markAt, mark)
+	d.put(other, markAt, mark)
 }
 
-func (f *flash) put(half, at int, b byte) {
-	f[half][at] = b
+func (d *Device) put(half, at int, b byte) {
+	d.power.spend()
+	d.flash[half][at] = b
 }

@@ -2,6 +2,7 @@ package warden
 
 import (
 	"encoding/binary"
+	"math"
 	"math/rand"
 	"strings"
 	"testing"
@@ -10,20 +11,64 @@ import (
 // model does what the document says, in another way: it keeps texts and
 // numbers, not a flash, and looks at every byte that comes by itself.
 type model struct {
-	number   uint32
-	tries    int
-	pin      string
-	keys     [4]string
+	kept
+	written  kept // what the half that counts has
 	unlocked bool
 	halves   [2]string
 	now      int
 	come     string
+	gone     bool
+	left     int // bytes until the power goes; steady, if it does not
 }
 
-func (m *model) write() {
+type kept struct {
+	number uint32
+	tries  int
+	pin    string
+	keys   [4]string
+}
+
+const steady = -1
+
+func (k kept) image() string {
+	return imaged(k.number, k.tries, k.pin, k.keys[:]...)
+}
+
+// write tells whether the power lasted for all of it.
+func (m *model) write() bool {
 	m.number++
-	m.now = 1 - m.now
-	m.halves[m.now] = imaged(m.number, m.tries, m.pin, m.keys[:]...)
+	other := &m.halves[1-m.now]
+	if m.left != steady && m.left < 101 {
+		*other = partly(*other, m.image(), m.left)
+		m.gone, m.come, m.unlocked, m.kept = true, "", false, m.written
+		return false
+	}
+	*other = m.image()
+	m.now, m.written = 1-m.now, m.kept
+	if m.left != steady {
+		m.left -= 101
+	}
+	return true
+}
+
+// partly is a half of whose 101 bytes so many (up to 100) have been written.
+func partly(was, image string, bytes int) string {
+	if bytes == 0 {
+		return was
+	}
+	return "\x00" + image[1:bytes] + was[bytes:]
+}
+
+func (m *model) cut(n int) Errno {
+	if n < 0 {
+		return ErrArg
+	}
+	m.left = n
+	return OK
+}
+
+func (m *model) boot() {
+	m.gone, m.left, m.come, m.unlocked = false, steady, "", false
 }
 
 func (m *model) worn() bool { return m.number == greatest }
@@ -31,6 +76,9 @@ func (m *model) worn() bool { return m.number == greatest }
 func (m *model) feed(bytes string) string {
 	all := ""
 	for _, b := range []byte(bytes) {
+		if m.gone {
+			break
+		}
 		m.come += string([]byte{b})
 		for again := true; again; {
 			var answer string
@@ -97,7 +145,9 @@ func (m *model) carryOut(kind, slot int, payload string) string {
 		m.unlocked = false
 	case 3:
 		m.keys[slot] = payload[1:]
-		m.write()
+		if !m.write() {
+			return ""
+		}
 	case 4:
 		seal := wantedSeal(m.keys[slot], payload[1:])
 		return framed(0, string(seal[:]))
@@ -105,7 +155,9 @@ func (m *model) carryOut(kind, slot int, payload string) string {
 		return framed(0, wantedCode(m.keys[slot], int(binary.BigEndian.Uint64([]byte(payload[1:])))))
 	case 6:
 		m.pin = payload
-		m.write()
+		if !m.write() {
+			return ""
+		}
 	case 7:
 		return framed(0, m.told())
 	}
@@ -115,18 +167,24 @@ func (m *model) carryOut(kind, slot int, payload string) string {
 func (m *model) try(pin string) string {
 	m.unlocked = false
 	m.tries--
-	m.write()
+	if !m.write() {
+		return ""
+	}
 	if pin == m.pin && m.worn() {
 		return framed(7, "")
 	}
 	if pin == m.pin {
 		m.tries, m.unlocked = 5, true
-		m.write()
+		if !m.write() {
+			return ""
+		}
 		return framed(0, "")
 	}
 	if m.tries == 0 && !m.worn() {
 		m.keys = [4]string{}
-		m.write()
+		if !m.write() {
+			return ""
+		}
 	}
 	return framed(3, string([]byte{byte(m.tries)}))
 }
@@ -159,9 +217,9 @@ func randomText(r *rand.Rand, length int) string {
 }
 
 func randomPair(t *testing.T, r *rand.Rand) pair {
-	m := &model{number: 1, tries: 5, pin: randomText(r, 1+r.Intn(8)), halves: [2]string{noImage, noImage}}
+	m := &model{kept: kept{number: 1, tries: 5, pin: randomText(r, 1+r.Intn(8))}, halves: [2]string{noImage, noImage}, left: steady}
 	if r.Intn(2) == 0 {
-		m.halves[0] = imaged(1, 5, m.pin)
+		m.halves[0], m.written = m.image(), m.kept
 		return pair{newDevice(t, m.pin), m}
 	}
 	m.tries = r.Intn(6)
@@ -170,7 +228,7 @@ func randomPair(t *testing.T, r *rand.Rand) pair {
 		m.keys[slot] = randomText(r, r.Intn(21))
 	}
 	m.now = r.Intn(2)
-	m.halves[m.now] = imaged(m.number, m.tries, m.pin, m.keys[:]...)
+	m.halves[m.now], m.written = m.image(), m.kept
 	m.halves[1-m.now] = []string{noImage, randomText(r, 100), "\x00" + imaged(greatest, 5, "other")[1:]}[r.Intn(3)]
 	return pair{opened(t, m.halves[0]+m.halves[1]), m}
 }
@@ -209,24 +267,73 @@ func (p pair) feeds(t *testing.T, bytes string) {
 	}
 }
 
+func (p pair) cuts(t *testing.T, n int) {
+	t.Helper()
+	if e, want := p.device.Cut(n), p.model.cut(n); e != want {
+		t.Fatalf("P6: Cut(%d) = %d, want %d", n, e, want)
+	}
+}
+
+func (p pair) boots(t *testing.T) {
+	t.Helper()
+	p.model.boot()
+	if e := p.device.Boot(); e != OK {
+		t.Fatalf("P6: Boot = %d", e)
+	}
+}
+
+func (p pair) feedsInPieces(t *testing.T, r *rand.Rand) {
+	t.Helper()
+	bytes := randomBytes(r, p.model)
+	for range r.Intn(3) {
+		bytes += randomBytes(r, p.model)
+	}
+	for len(bytes) > 0 {
+		n := 1 + r.Intn(len(bytes))
+		p.feeds(t, bytes[:n])
+		bytes = bytes[n:]
+	}
+}
+
 // P1, P4 and P5 with any bytes in any pieces, and P2: three devices by turns.
 func TestDevicesAsTheModel(t *testing.T) {
 	r := rand.New(rand.NewSource(1))
 	for range 1500 {
 		pairs := []pair{randomPair(t, r), randomPair(t, r), randomPair(t, r)}
 		for range 60 {
+			pairs[r.Intn(3)].feedsInPieces(t, r)
+		}
+	}
+}
+
+// P1, P2 and P6: the same, and the power of each goes and comes.
+func TestDevicesWhosePowerGoesAsTheModel(t *testing.T) {
+	r := rand.New(rand.NewSource(3))
+	for range 1500 {
+		pairs := []pair{randomPair(t, r), randomPair(t, r), randomPair(t, r)}
+		for range 80 {
 			p := pairs[r.Intn(3)]
-			bytes := randomBytes(r, p.model)
-			for range r.Intn(3) {
-				bytes += randomBytes(r, p.model)
-			}
-			for len(bytes) > 0 {
-				n := 1 + r.Intn(len(bytes))
-				p.feeds(t, bytes[:n])
-				bytes = bytes[n:]
+			switch r.Intn(12) {
+			case 0, 1:
+				p.cuts(t, randomCut(r))
+			case 2:
+				p.boots(t)
+			case 3, 4:
+				if p.model.gone {
+					p.boots(t)
+				}
+			default:
+				p.feedsInPieces(t, r)
 			}
 		}
 	}
+}
+
+func randomCut(r *rand.Rand) int {
+	if r.Intn(2) == 0 {
+		return r.Intn(404)
+	}
+	return []int{math.MinInt, -101, -1, 0, 1, 2, 99, 100, 101, 102, 202, 203, 303, math.MaxInt}[r.Intn(14)]
 }
 
 func TestTwoDevicesByTurns(t *testing.T) {

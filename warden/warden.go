@@ -15,6 +15,7 @@ const (
 // each command.
 type Device struct {
 	flash    flash
+	power    power
 	unlocked bool
 	come     string // of a frame whose end has not come
 }
@@ -46,10 +47,19 @@ func (d *Device) Feed(bytes string) string {
 }
 
 // Cut says when the power goes (P6).
-func (d *Device) Cut(n int) Errno { return OK }
+func (d *Device) Cut(n int) Errno {
+	if n < 0 {
+		return ErrArg
+	}
+	d.power.ending, d.power.left = true, n // power that is gone stays gone
+	return OK
+}
 
 // Boot boots the device (P6).
-func (d *Device) Boot() Errno { return OK }
+func (d *Device) Boot() Errno {
+	d.restart(power{})
+	return OK
+}
 
 // Flash tells the flash, as it is now (P4).
 func (d *Device) Flash() string {

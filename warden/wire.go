@@ -29,11 +29,11 @@ const (
 	isWorn       status = 7
 )
 
-// answersTo cuts what has come into frames and answers each. What may still
-// become a frame waits for more.
+// answersTo cuts what has come into frames and answers each, while there is
+// power. What may still become a frame waits for more.
 func (d *Device) answersTo(come string) string {
 	var answers strings.Builder
-	for {
+	for !d.power.gone {
 	look:
 		for come != "" && come[0] != begin {
 			come = come[1:]
@@ -51,6 +51,7 @@ func (d *Device) answersTo(come string) string {
 		answers.WriteString(d.obey(come[commandAt], come[payloadAt:end-1]))
 		come = come[end:]
 	}
+	return answers.String()
 }
 
 // frameEnd tells where the frame ends that begins here, 0 if its end has not
